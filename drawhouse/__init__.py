@@ -1,0 +1,1 @@
+"""Drawhouse: parts that draw on one another, in rings too."""

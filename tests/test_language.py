@@ -1,0 +1,167 @@
+"""The rules of LANGUAGE.md that can be seen row by row, over the package's own files."""
+
+import ast
+import builtins
+import pathlib
+import re
+import unittest
+
+PACKAGE = pathlib.Path(__file__).resolve().parent.parent / "drawhouse"
+
+BUILT_INS = set(
+    "len range enumerate zip min max sum abs sorted reversed int str bool list tuple dict set frozenset isinstance "
+    "ord repr any all divmod Exception ValueError TypeError KeyError IndexError LookupError ZeroDivisionError "
+    "ArithmeticError OverflowError RuntimeError NotImplementedError AttributeError StopIteration".split()
+)
+DOUBLE_UNDERSCORES = {"__init__", "__eq__", "__repr__", "__str__", "__len__"}
+METHODS_OF_PYTHON = set(
+    "append clear copy count endswith extend find get index insert isalnum isalpha isdigit islower isspace isupper "
+    "items join keys ljust lower lstrip partition pop remove replace reverse rfind rjust rpartition rsplit rstrip "
+    "setdefault split splitlines startswith strip update upper values zfill bit_length".split()
+)
+WORDS_THAT_STAND_NOWHERE = re.compile(
+    r"\b(type|typing|typing_extensions|enum|Enum|IntEnum|StrEnum|Flag|IntFlag|Generic|Protocol|ABC|ABCMeta|namedtuple"
+    r"|NamedTuple|TypedDict|TYPE_CHECKING|abstractmethod)\b|dataclass|overload|contextmanager"
+)
+NODES_THAT_STAND_NOWHERE = (
+    ast.With, ast.Match, ast.Delete, ast.Global, ast.Nonlocal, ast.Assert, ast.Yield, ast.YieldFrom, ast.Await,
+    ast.AsyncFunctionDef, ast.AsyncFor, ast.AsyncWith, ast.SetComp, ast.DictComp, ast.GeneratorExp, ast.NamedExpr,
+    ast.Starred, ast.Div, ast.Import, ast.AnnAssign,
+)
+
+
+def files():
+    return sorted(PACKAGE.iterdir())
+
+
+def modules():
+    return [(path, path.read_text(encoding="utf-8")) for path in files() if path.suffix == ".py"]
+
+
+def faults_of_a_name(word):
+    if word.startswith("_") and word not in DOUBLE_UNDERSCORES:
+        return [f"the name {word} begins with an underscore"]
+    return []
+
+
+def faults_of_a_def(node):
+    faults = faults_of_a_name(node.name)
+    if node.end_lineno - node.lineno + 1 > 40:
+        faults.append(f"{node.name} has more than 40 rows")
+    if node.decorator_list or node.args.vararg or node.args.kwarg or node.args.kwonlyargs or node.args.posonlyargs:
+        faults.append(f"{node.name} has a decorator or parameters that aren't plain")
+    for parameter in node.args.args:
+        if hasattr(builtins, parameter.arg):
+            faults.append(f"the parameter {parameter.arg} is a name of Python's own")
+    return faults
+
+
+def faults_of_a_read_name(node):
+    if isinstance(node.ctx, ast.Store):
+        return [f"{node.id} is a name of Python's own"] if hasattr(builtins, node.id) else faults_of_a_name(node.id)
+    if hasattr(builtins, node.id) and node.id not in BUILT_INS:
+        return [f"the built-in {node.id}"]
+    return []
+
+
+def faults_of_an_import(node):
+    own = node.level == 0 and (node.module or "").startswith("drawhouse.")
+    plain = all(alias.name != "*" and alias.asname is None for alias in node.names)
+    return [] if own and plain else ["an import that isn't of the package's own modules"]
+
+
+def faults_of_a_node(node):
+    if isinstance(node, NODES_THAT_STAND_NOWHERE):
+        return [f"a {type(node).__name__}"]
+    if isinstance(node, ast.FunctionDef):
+        return faults_of_a_def(node)
+    if isinstance(node, ast.ClassDef) and (len(node.bases) > 1 or node.decorator_list or node.keywords):
+        return [f"the class {node.name} isn't plain"]
+    if isinstance(node, ast.Name):
+        return faults_of_a_read_name(node)
+    if isinstance(node, ast.ImportFrom):
+        return faults_of_an_import(node)
+    if isinstance(node, ast.Constant) and isinstance(node.value, (float, bytes, complex)):
+        return [f"the value {node.value!r}"]
+    if isinstance(node, ast.Assign) and len(node.targets) > 1:
+        return ["more than one target"]
+    if isinstance(node, (ast.For, ast.While)) and node.orelse:
+        return ["an else behind a loop"]
+    if isinstance(node, ast.Try) and node.finalbody:
+        return ["a finally"]
+    if isinstance(node, ast.Attribute) and node.attr.startswith("_"):
+        return faults_of_a_name(node.attr)
+    return []
+
+
+def methods_of_others(tree):
+    told = []
+    for node in ast.walk(tree):
+        if isinstance(node, ast.Call) and isinstance(node.func, ast.Attribute):
+            word = node.func.attr
+            known = [value for value in ("", [], {}, 0, ()) if hasattr(value, word)]
+            if known and word not in METHODS_OF_PYTHON | DOUBLE_UNDERSCORES:
+                told.append(f"{node.lineno}: the method {word}")
+    return told
+
+
+class Files(unittest.TestCase):
+    def test_there_are_files(self):
+        self.assertIn("__init__.py", [path.name for path in files()])
+
+    def test_names_of_files(self):
+        for path in files():
+            if path.name != "__pycache__":
+                self.assertRegex(path.name, r"\A[a-z0-9_]+\.py\Z")
+
+    def test_signs_and_lengths(self):
+        for path, text in modules():
+            rows = text.split("\n")
+            self.assertRegex(text, r"\A[ -~\n]*\Z", path.name)
+            self.assertLessEqual(len(rows), 401, path.name)
+            self.assertLessEqual(max(len(row) for row in rows), 120, path.name)
+            self.assertIsNone(WORDS_THAT_STAND_NOWHERE.search(text), path.name)
+
+
+class Code(unittest.TestCase):
+    def test_each_node(self):
+        for path, text in modules():
+            for node in ast.walk(ast.parse(text)):
+                for fault in faults_of_a_node(node):
+                    self.fail(f"{path.name}: {getattr(node, 'lineno', 0)}: {fault}")
+
+    def test_methods_of_pythons_own_values(self):
+        for path, text in modules():
+            self.assertEqual(methods_of_others(ast.parse(text)), [], path.name)
+
+    def test_a_name_is_a_method_or_a_value_but_not_both(self):
+        methods, values = set(), set()
+        for _, text in modules():
+            for node in ast.walk(ast.parse(text)):
+                if isinstance(node, ast.ClassDef):
+                    methods |= {one.name for one in node.body if isinstance(one, ast.FunctionDef)}
+                if isinstance(node, ast.Attribute) and isinstance(node.ctx, ast.Store):
+                    values.add(node.attr)
+        self.assertEqual(methods & values, set())
+
+
+class TheChecksThemselves(unittest.TestCase):
+    OUTSIDE = [
+        "import re", "from os import path", "from .words import is_name", "from drawhouse.words import *",
+        "x = 1.5", "x = b''", "x = y = 1", "x = 1 / 2", "assert x", "del x", "x = {a for a in b}", "x = f(*a)",
+        "def f(*a): pass", "def f(list): pass", "def _f(): pass", "_x = 1", "list = 1", "x = open(y)", "x = chr(1)",
+        "for a in b:\n    pass\nelse:\n    pass", "x: int = 1", "class A(B, C): pass", "x.__dict__",
+    ]
+
+    def test_what_is_outside_is_found(self):
+        for text in self.OUTSIDE:
+            faults = [fault for node in ast.walk(ast.parse(text)) for fault in faults_of_a_node(node)]
+            self.assertTrue(faults, text)
+
+    def test_methods_that_are_outside_are_found(self):
+        for text in ("x.sort()", "x.format(1)", "x.encode()", "x.popitem()", "x.title()"):
+            self.assertTrue(methods_of_others(ast.parse(text)), text)
+
+
+if __name__ == "__main__":
+    unittest.main()
