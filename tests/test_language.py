@@ -1,4 +1,4 @@
-"""The rules of LANGUAGE.md that can be seen row by row, over the package's own files."""
+"""Some rules of LANGUAGE.md, those that are easily seen, over the package's own files."""
 
 import ast
 import builtins
