@@ -70,6 +70,18 @@ def faults_of_an_import(node):
     return [] if own and plain else ["an import that isn't of the package's own modules"]
 
 
+def faults_of_an_expression(node):
+    if isinstance(node, ast.FormattedValue) and (node.format_spec or not isinstance(node.value, ast.Name)):
+        return ["an f-string with more than a plain name"]
+    if isinstance(node, ast.ListComp) and (len(node.generators) > 1 or len(node.generators[0].ifs) > 1):
+        return ["a comprehension with more than one for and one if"]
+    if isinstance(node, ast.Compare) and any(isinstance(one, (ast.Is, ast.IsNot)) for one in node.ops):
+        sides = [node.left] + node.comparators
+        if not any(isinstance(one, ast.Constant) and repr(one.value) in ("None", "True", "False") for one in sides):
+            return ["an is beside no None, True or False"]
+    return []
+
+
 def faults_of_a_node(node):
     if isinstance(node, NODES_THAT_STAND_NOWHERE):
         return [f"a {type(node).__name__}"]
@@ -91,7 +103,41 @@ def faults_of_a_node(node):
         return ["a finally"]
     if isinstance(node, ast.Attribute) and node.attr.startswith("_"):
         return faults_of_a_name(node.attr)
-    return []
+    return faults_of_an_expression(node)
+
+
+def names_given_twice(tree):
+    """Names of classes and imports of a file that a parameter or a local of it has too."""
+    top, within = set(), set()
+    for node in ast.walk(tree):
+        if isinstance(node, ast.ImportFrom):
+            top |= {alias.name for alias in node.names}
+        elif isinstance(node, ast.ClassDef):
+            top.add(node.name)
+        elif isinstance(node, ast.arg):
+            within.add(node.arg)
+        elif isinstance(node, ast.Name) and isinstance(node.ctx, ast.Store):
+            within.add(node.id)
+    return sorted(top & within)
+
+
+def drawn_from(tree):
+    return {node.module.rpartition(".")[2] for node in ast.walk(tree) if isinstance(node, ast.ImportFrom)}
+
+
+def in_rings(drawn):
+    """The files of a dict, each with the files that it draws from, that come to themselves."""
+    told = []
+    for start in sorted(drawn):
+        seen, ahead = set(), set(drawn[start])
+        while ahead:
+            one = ahead.pop()
+            if one not in seen:
+                seen.add(one)
+                ahead |= drawn.get(one, set())
+        if start in seen:
+            told.append(start)
+    return told
 
 
 def methods_of_others(tree):
@@ -134,6 +180,13 @@ class Code(unittest.TestCase):
         for path, text in modules():
             self.assertEqual(methods_of_others(ast.parse(text)), [], path.name)
 
+    def test_no_name_of_a_class_or_an_import_is_given_twice(self):
+        for path, text in modules():
+            self.assertEqual(names_given_twice(ast.parse(text)), [], path.name)
+
+    def test_no_two_files_draw_from_one_another(self):
+        self.assertEqual(in_rings({path.stem: drawn_from(ast.parse(text)) for path, text in modules()}), [])
+
     def test_a_name_is_a_method_or_a_value_but_not_both(self):
         methods, values = set(), set()
         for _, text in modules():
@@ -151,6 +204,8 @@ class TheChecksThemselves(unittest.TestCase):
         "x = 1.5", "x = b''", "x = y = 1", "x = 1 / 2", "assert x", "del x", "x = {a for a in b}", "x = f(*a)",
         "def f(*a): pass", "def f(list): pass", "def _f(): pass", "_x = 1", "list = 1", "x = open(y)", "x = chr(1)",
         "for a in b:\n    pass\nelse:\n    pass", "x: int = 1", "class A(B, C): pass", "x.__dict__",
+        "x = f'{a.b}'", "x = f'{a:3}'", "x = [a for a in b for c in d]", "x = [a for a in b if c if d]", "x = a is b",
+        "x = a is 1",
     ]
 
     def test_what_is_outside_is_found(self):
@@ -161,6 +216,19 @@ class TheChecksThemselves(unittest.TestCase):
     def test_methods_that_are_outside_are_found(self):
         for text in ("x.sort()", "x.format(1)", "x.encode()", "x.popitem()", "x.title()"):
             self.assertTrue(methods_of_others(ast.parse(text)), text)
+
+    def test_what_is_inside_is_not_found(self):
+        for text in ("x = f'{a} {b!r}'", "x = [a for a in b if c]", "x = a is None", "x = a is not True", "x = a == b"):
+            faults = [fault for node in ast.walk(ast.parse(text)) for fault in faults_of_a_node(node)]
+            self.assertEqual(faults, [], text)
+
+    def test_names_given_twice_are_found(self):
+        for text in ("from a import b\ndef f(b): pass", "class A: pass\ndef f():\n    A = 1"):
+            self.assertTrue(names_given_twice(ast.parse(text)), text)
+
+    def test_rings_of_files_are_found(self):
+        drawn = {"a": {"b"}, "b": {"c"}, "c": {"b"}, "d": {"d"}, "e": {"a", "f"}, "f": set()}
+        self.assertEqual(in_rings(drawn), ["b", "c", "d"])
 
 
 if __name__ == "__main__":
