@@ -28,6 +28,10 @@ NODES_THAT_STAND_NOWHERE = (
     ast.AsyncFunctionDef, ast.AsyncFor, ast.AsyncWith, ast.SetComp, ast.DictComp, ast.GeneratorExp, ast.NamedExpr,
     ast.Starred, ast.Div, ast.Import, ast.AnnAssign,
 )
+WALKED_AT_ONCE = {"zip", "enumerate", "reversed", "range"}
+WALKED_AT_ONCE_OF_DICTS = {"items", "keys", "values"}
+WALKERS = {"list", "tuple", "dict", "sorted", "sum", "any", "all", "enumerate", "zip", "min", "max"}
+VALUES_LIKE_METHODS = set("count index title find get join lower upper split strip copy add".split())
 
 
 def files():
@@ -101,6 +105,10 @@ def faults_of_a_node(node):
         return ["an else behind a loop"]
     if isinstance(node, ast.Try) and node.finalbody:
         return ["a finally"]
+    if isinstance(node, ast.Raise) and not isinstance(node.exc, ast.Call):
+        return ["an error that isn't made on the spot"]
+    if isinstance(node, ast.Constant) and isinstance(node.value, str) and "%" in node.value:
+        return ["a text with a percent sign"]
     if isinstance(node, ast.Attribute) and node.attr.startswith("_"):
         return faults_of_a_name(node.attr)
     return faults_of_an_expression(node)
@@ -151,6 +159,80 @@ def methods_of_others(tree):
     return told
 
 
+def is_walk(node):
+    if not isinstance(node, ast.Call):
+        return False
+    if isinstance(node.func, ast.Name):
+        return node.func.id in WALKED_AT_ONCE
+    return isinstance(node.func, ast.Attribute) and node.func.attr in WALKED_AT_ONCE_OF_DICTS
+
+
+def walked_on_the_spot(tree):
+    """What stands where L23 has things walked."""
+    places = []
+    for node in ast.walk(tree):
+        if isinstance(node, (ast.For, ast.comprehension)):
+            places.append(node.iter)
+        elif isinstance(node, ast.Call) and isinstance(node.func, ast.Name) and node.func.id in WALKERS:
+            places.extend(node.args if node.func.id == "zip" else node.args[:1])
+    return places
+
+
+def walks_that_are_kept(tree):
+    spots = [id(node) for node in walked_on_the_spot(tree)]
+    return [node.lineno for node in ast.walk(tree) if is_walk(node) and id(node) not in spots]
+
+
+def changed_while_walked(tree):
+    """Loops with a row that changes, by a method or an index, what the loop walks."""
+    told = []
+    for loop in [node for node in ast.walk(tree) if isinstance(node, ast.For)]:
+        walked = {ast.unparse(node) for node in ast.walk(loop.iter) if isinstance(node, (ast.Name, ast.Attribute))}
+        for node in [node for row in loop.body for node in ast.walk(row)]:
+            change = isinstance(node, ast.Call) and isinstance(node.func, ast.Attribute) and node.func.attr in (
+                "append", "clear", "extend", "insert", "pop", "remove", "reverse", "setdefault", "update")
+            if change and ast.unparse(node.func.value) in walked:
+                told.append(node.lineno)
+            stored = isinstance(node, ast.Subscript) and isinstance(node.ctx, ast.Store)
+            if stored and ast.unparse(node.value) in walked:
+                told.append(node.lineno)
+    return told
+
+
+def classes_handed_on(tree, classes):
+    """Places at which a class stands but isn't called, a base, or beside isinstance, except or raise."""
+    good = set()
+    for node in ast.walk(tree):
+        if isinstance(node, ast.Call):
+            good.add(id(node.func))
+            # Base.__init__(self, ..) calls the base's, as L28 has it.
+            if isinstance(node.func, ast.Attribute) and node.func.attr == "__init__":
+                good.add(id(node.func.value))
+            if isinstance(node.func, ast.Name) and node.func.id == "isinstance":
+                good |= {id(one) for one in ast.walk(node.args[1])}
+        elif isinstance(node, ast.ClassDef):
+            good |= {id(base) for base in node.bases}
+        elif isinstance(node, ast.ExceptHandler) and node.type is not None:
+            good |= {id(one) for one in ast.walk(node.type)}
+    named = [node for node in ast.walk(tree) if isinstance(node, ast.Name) and node.id in classes]
+    return [f"{node.lineno}: {node.id}" for node in named if id(node) not in good]
+
+
+def classes_of_the_package():
+    trees = [ast.parse(text) for _, text in modules()]
+    return {node.name for tree in trees for node in ast.walk(tree) if isinstance(node, ast.ClassDef)}
+
+
+def values_named_like_methods(tree):
+    told = []
+    for node in ast.walk(tree):
+        if isinstance(node, ast.Attribute) and isinstance(node.ctx, ast.Store):
+            known = [value for value in ("", 0, [], {}, set(), b"", ()) if hasattr(value, node.attr)]
+            if known and node.attr not in VALUES_LIKE_METHODS:
+                told.append(f"{node.lineno}: the value {node.attr}")
+    return told
+
+
 class Files(unittest.TestCase):
     def test_there_are_files(self):
         self.assertIn("__init__.py", [path.name for path in files()])
@@ -197,6 +279,22 @@ class Code(unittest.TestCase):
                     values.add(node.attr)
         self.assertEqual(methods & values, set())
 
+    def test_walks_are_walked_at_once(self):
+        for path, text in modules():
+            self.assertEqual(walks_that_are_kept(ast.parse(text)), [], path.name)
+
+    def test_what_a_loop_walks_is_not_changed_in_it(self):
+        for path, text in modules():
+            self.assertEqual(changed_while_walked(ast.parse(text)), [], path.name)
+
+    def test_classes_are_not_handed_on(self):
+        for path, text in modules():
+            self.assertEqual(classes_handed_on(ast.parse(text), classes_of_the_package()), [], path.name)
+
+    def test_values_are_not_named_like_methods_of_pythons_own(self):
+        for path, text in modules():
+            self.assertEqual(values_named_like_methods(ast.parse(text)), [], path.name)
+
 
 class TheChecksThemselves(unittest.TestCase):
     OUTSIDE = [
@@ -205,7 +303,7 @@ class TheChecksThemselves(unittest.TestCase):
         "def f(*a): pass", "def f(list): pass", "def _f(): pass", "_x = 1", "list = 1", "x = open(y)", "x = chr(1)",
         "for a in b:\n    pass\nelse:\n    pass", "x: int = 1", "class A(B, C): pass", "x.__dict__",
         "x = f'{a.b}'", "x = f'{a:3}'", "x = [a for a in b for c in d]", "x = [a for a in b if c if d]", "x = a is b",
-        "x = a is 1",
+        "x = a is 1", "raise e", "raise A", "raise", "x = '100%'",
     ]
 
     def test_what_is_outside_is_found(self):
@@ -225,6 +323,33 @@ class TheChecksThemselves(unittest.TestCase):
     def test_names_given_twice_are_found(self):
         for text in ("from a import b\ndef f(b): pass", "class A: pass\ndef f():\n    A = 1"):
             self.assertTrue(names_given_twice(ast.parse(text)), text)
+
+    def test_walks_that_are_kept_are_found(self):
+        for text in ("x = zip(a, b)", "x = d.items()", "f(range(3))", "x = [range(3)]", "x = sum([], range(3))"):
+            self.assertTrue(walks_that_are_kept(ast.parse(text)), text)
+        for text in ("x = list(d.items())", "for a in range(3): pass", "x = [a for a in reversed(b)]",
+                     "for a in enumerate(zip(b, reversed(c))): pass"):
+            self.assertEqual(walks_that_are_kept(ast.parse(text)), [], text)
+
+    def test_changes_of_what_is_walked_are_found(self):
+        for text in ("for a in b:\n    b.append(a)", "for a, c in enumerate(b):\n    b[a] = 1",
+                     "for a in self.b:\n    if a:\n        self.b.pop()"):
+            self.assertTrue(changed_while_walked(ast.parse(text)), text)
+        for text in ("for a in b:\n    c.append(a)", "for a in self.b:\n    self.c[a] = 1"):
+            self.assertEqual(changed_while_walked(ast.parse(text)), [], text)
+
+    def test_classes_that_are_handed_on_are_found(self):
+        for text in ("x = [A, B]", "f(A)", "x = A if b else C", "return_it = A"):
+            self.assertTrue(classes_handed_on(ast.parse(text), {"A"}), text)
+        for text in ("x = A(1)", "class B(A): pass", "x = isinstance(y, (A, B))", "raise A(1)",
+                     "try:\n    f()\nexcept A:\n    pass"):
+            self.assertEqual(classes_handed_on(ast.parse(text), {"A"}), [], text)
+
+    def test_values_that_are_named_like_methods_are_found(self):
+        for text in ("x.items = 1", "x.real = 1", "self.sort = 1", "self.pop = 1"):
+            self.assertTrue(values_named_like_methods(ast.parse(text)), text)
+        for text in ("x.house = 1", "self.count = 1"):
+            self.assertEqual(values_named_like_methods(ast.parse(text)), [], text)
 
     def test_rings_of_files_are_found(self):
         drawn = {"a": {"b"}, "b": {"c"}, "c": {"b"}, "d": {"d"}, "e": {"a", "f"}, "f": set()}
