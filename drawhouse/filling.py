@@ -6,7 +6,7 @@ from drawhouse.rows import Deed, Draw, Late, Take
 from drawhouse.values import kind_of
 from drawhouse.words import parent_of, prefixes
 
-# Expressions are evaluated by a stand: whatever has a house, read_step, trail_now and note.
+# Rows are gone through by a stand: whatever has a house, draw_step, read_step, trail_now and note.
 
 
 def path_end(stand, address, path):
@@ -58,6 +58,37 @@ def come_to(stand, address, terms):
             raise Fault("nonumber", stand.trail_now(), whose, name)
         total += term[0] * value
     return total
+
+
+def looked_at(stand, value):
+    # Who looks at a late hold is the one who draws it, and sees the part.
+    if kind_of(value) != "late":
+        return value
+    stand.draw_step(value[1])
+    return ("part", value[1])
+
+
+def taken(stand, row):
+    stand.draw_step(row.address)
+    beneath = row.address + "." + row.word
+    if stand.house.has(beneath):
+        stand.draw_step(beneath)
+        return ("part", beneath)
+    return stand.read_step(row.address, row.word)
+
+
+def row_value(stand, address, row):
+    """What a row of the part of that address comes to."""
+    if isinstance(row, Deed):
+        return ("deed", address, row.name, show_expr(row.terms))
+    if isinstance(row, Late):
+        return ("late", row.address)
+    if isinstance(row, Draw):
+        stand.draw_step(row.address)
+        return ("part", row.address)
+    if isinstance(row, Take):
+        return taken(stand, row)
+    return come_to(stand, address, row.terms)
 
 
 class Filling:
@@ -128,7 +159,7 @@ class Filling:
         for at, row in enumerate(self.house.part(address).rows):
             self.begun[-1] = (address, at)
             self.note(("row", address, at))
-            self.bind(address, row.binds(), self.row_value(address, row))
+            self.bind(address, row.binds(), row_value(self, address, row))
         self.begun.pop()
         self.ended.append(address)
         self.note(("end", address))
@@ -140,33 +171,10 @@ class Filling:
             raise Fault("unfilled" if unfilled else "missing", self.trail_now(), address, name)
         value = self.held[address][name]
         self.note(("see", address, name, value))
-        if kind_of(value) != "late":
-            return value
-        self.draw_step(value[1])
-        return ("part", value[1])
+        return looked_at(self, value)
 
     def bind(self, address, name, value):
         # A need binds no name: its expression is only evaluated.
         if name != "":
             self.held[address][name] = value
             self.note(("bind", address, name, value))
-
-    def row_value(self, address, row):
-        if isinstance(row, Deed):
-            return ("deed", address, row.name, show_expr(row.terms))
-        if isinstance(row, Late):
-            return ("late", row.address)
-        if isinstance(row, Draw):
-            self.draw_step(row.address)
-            return ("part", row.address)
-        if isinstance(row, Take):
-            return self.taken(row)
-        return come_to(self, address, row.terms)
-
-    def taken(self, row):
-        self.draw_step(row.address)
-        beneath = row.address + "." + row.word
-        if self.house.has(beneath):
-            self.draw_step(beneath)
-            return ("part", beneath)
-        return self.read_step(row.address, row.word)

@@ -1,11 +1,12 @@
-"""What several tests need: houses by chance, always the same ones, and a second telling of points 24 to 31.
+"""What several tests need: houses by chance, always the same ones, and a second telling of points 24 to 31, 35, 39, 40.
 
 The telling goes by texts alone, and keeps nothing but the events: what is bound, who is filling and what was touched
-it finds from them each time.
+it finds from them each time. Demanding tells likewise what names mean on demand, and keeps nothing but the meanings.
 """
 
 import random
 
+from drawhouse.errors import Fault
 from drawhouse.house import House
 from drawhouse.reader import read_part
 
@@ -15,6 +16,15 @@ NAMES = ["k", "l", "m", "n", "o", "p", "q", "r", "s", "t", "u", "v"]
 
 def house_of(*texts):
     return House([read_part(text) for text in texts])
+
+
+def fault_of(ask):
+    """None, or the fault as (word, trail, whose, name)."""
+    try:
+        ask()
+    except Fault as fault:
+        return (fault.word, fault.trail, fault.whose, fault.name)
+    return None
 
 
 def up_to(address):
@@ -131,6 +141,17 @@ class Telling:
             return log, fault
         return self.events[ahead:], None
 
+    def behind(self, events):
+        """Another telling, of the same house, with just these events behind it."""
+        other = Telling([])
+        other.rows, other.events = self.rows, list(events)
+        return other
+
+    def shows(self):
+        filling = [address for address, _ in self.filling()]
+        shown = sorted(event[1] for event in self.events if event[0] == "begin")
+        return [(one, "filling" if one in filling else "filled", self.names(one)) for one in shown]
+
     def filling(self):
         stack = []
         for event in self.events:
@@ -237,3 +258,45 @@ class Telling:
             value = self.value(value[1], value[3].split(" "))
             self.events.append(("back", value))
         return value, last
+
+
+class Demanding(Telling):
+    """Point 39: nothing is drawn, and a name is read whatever row stands ahead of its own."""
+
+    def __init__(self, texts):
+        super().__init__(texts)
+        self.meanings = {}
+
+    def come_by(self, address):
+        for prefix in up_to(address):
+            if prefix not in self.rows:
+                raise Met("unknown", prefix, "")
+
+    def see(self, address, name):
+        if name not in [bound_in(row) for row in self.rows[address]]:
+            raise Met("missing", address, name)
+        if (address, name) not in self.meanings:
+            raise Met("waits", address, name)
+        value = self.meanings[address, name]
+        if isinstance(value, tuple) and value[0] == "late":
+            self.come_by(value[1])
+            return ("part", value[1])
+        return value
+
+    def well(self, address, row):
+        try:
+            self.obey(address, row)
+        except Met as met:
+            return met.args[:3] if met.args[0] == "waits" else ("fault", *met.args)
+        return ("is", self.events[-1][3])
+
+    def wells(self, shuffled):
+        """Point 40: one row that goes through at a time, the first one of the rows as shuffled."""
+        rows = [(one, row) for one in sorted(self.rows) for row in self.rows[one] if not row.startswith("need ")]
+        while True:
+            left = [(one, row) for one, row in shuffled(rows) if (one, bound_in(row)) not in self.meanings]
+            found = [(one, row) for one, row in left if self.well(one, row)[0] == "is"]
+            if not found:
+                return {(one, bound_in(row)): self.well(one, row) for one, row in rows}
+            one, row = found[0]
+            self.meanings[one, bound_in(row)] = self.well(one, row)[1]

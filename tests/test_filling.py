@@ -8,20 +8,11 @@ from drawhouse.house import House
 from drawhouse.links import leads
 from drawhouse.parts import Part
 from drawhouse.rows import Deed, Let, Need
-from telling import Chance, Telling, house_of
+from telling import Chance, Telling, fault_of, house_of
 
 SIX_NUMBERS = [
     (1, "number", 5), (-1, "number", 7), (1, "number", 1), (1, "number", 0), (-1, "number", 9), (1, "number", 3),
 ]
-
-
-def fault_of(ask):
-    """None, or the fault as (word, trail, whose, name)."""
-    try:
-        ask()
-    except Fault as fault:
-        return (fault.word, fault.trail, fault.whose, fault.name)
-    return None
 
 
 class Fillings(unittest.TestCase):
